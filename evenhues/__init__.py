@@ -1,0 +1,1 @@
+"""Evenhues: places in hues, with no even row in one hue."""
