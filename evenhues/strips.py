@@ -19,9 +19,7 @@ def need_strip(thing):
 
 def is_order(thing):
     """Tell of anything whether it has each of the four hues once."""
-    if not isinstance(thing, tuple) or len(thing) != len(HUES):
-        return False
-    return are_wholes(thing, HUES[0], HUES[-1]) and tuple(sorted(thing)) == HUES
+    return isinstance(thing, tuple) and are_wholes(thing, HUES[0], HUES[-1]) and tuple(sorted(thing)) == HUES
 
 
 def backward(strip):
