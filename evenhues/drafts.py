@@ -21,15 +21,30 @@ def need_draft(sizes, thing):
         raise NoDraft("a draft of the sizes is due")
 
 
+def is_blank(draft, thing):
+    """Tell of anything whether it is a blank place of the draft."""
+    return is_whole(thing, 0, len(draft) - 1) and draft[thing] == BLANK
+
+
 def need_blank(draft, thing):
     """Refuse what is no blank place of the draft."""
-    if not is_whole(thing, 0, len(draft) - 1) or draft[thing] != BLANK:
+    if not is_blank(draft, thing):
         raise NoPlace("a blank place is due")
+
+
+def blanks_of(draft):
+    """Tell the list of the draft's blank places, rising."""
+    return [place for place, hue in enumerate(draft) if hue == BLANK]
+
+
+def is_hue(sizes, thing):
+    """Tell of anything whether it is a hue that has a size."""
+    return is_whole(thing, 0, len(sizes) - 1)
 
 
 def need_hue(sizes, thing):
     """Refuse what is no hue that has a size."""
-    if not is_whole(thing, 0, len(sizes) - 1):
+    if not is_hue(sizes, thing):
         raise NoHue("a hue that has a size is due")
 
 
@@ -63,4 +78,9 @@ def open_hues(sizes, draft, place):
     """Tell the tuple of the hues that no row bars at the blank place, rising."""
     need_draft(sizes, draft)
     need_blank(draft, place)
+    return unbarred(sizes, draft, place)
+
+
+def unbarred(sizes, draft, place):
+    """Tell the open hues of what surely is a blank place of a draft."""
     return tuple([hue for hue in range(len(sizes)) if not barring_rows(sizes, draft, place, hue)])

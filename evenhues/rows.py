@@ -38,10 +38,6 @@ def rows_at(length, size, place):
     need_size(size)
     if not is_whole(place, 0, length - 1):
         raise NoPlace("a place below the length is due")
-    return [(first, step) for first, step in rows_in(length, size) if has_place(first, step, size, place)]
-
-
-def has_place(first, step, size, place):
-    """Tell whether the place is one of the row's."""
-    beyond = place - first
-    return 0 <= beyond <= step * (size - 1) and beyond % step == 0
+    # Found from the place on, not among all rows: drafts ask this very often.
+    rows = [(place - step * at, step) for at in range(size) for step in range(1, most_step(length, 0, size) + 1)]
+    return sorted([(first, step) for first, step in rows if first >= 0 and first + step * (size - 1) < length])

@@ -1,7 +1,9 @@
 """What the tests share: things of other kinds, many strips, and the check of a refusal."""
 
 import copy
+import functools
 import itertools
+import random
 
 BIG = 10 ** 30 - 1
 
@@ -52,8 +54,8 @@ def mixed_strips(many, hues=4, most=40):
     return told
 
 
-def rows_gone_through(length, size):
-    """All rows of the size in the length, found by trying every first and step."""
+@functools.lru_cache(maxsize=None)
+def all_rows(length, size):
     rows = []
     for first in range(length):
         for step in range(1, length + 1):
@@ -62,8 +64,82 @@ def rows_gone_through(length, size):
     return rows
 
 
+def rows_gone_through(length, size):
+    """All rows of the size in the length, found by trying every first and step."""
+    return list(all_rows(length, size))
+
+
 def places(row, size):
     return [row[0] + row[1] * k for k in range(size)]
+
+
+def wrong_rows(sizes, draft):
+    """All rows in one hue with as many places as its size, rising."""
+    told = []
+    for hue, size in enumerate(sizes):
+        for row in all_rows(len(draft), size):
+            if all(draft[place] == hue for place in places(row, size)):
+                told.append(row)
+    return sorted(told)
+
+
+def barring(sizes, draft, place, hue):
+    """The rows that bar the hue at the blank place, rising."""
+    told = []
+    for row in all_rows(len(draft), sizes[hue]):
+        own = places(row, sizes[hue])
+        if place in own and all(draft[other] == hue for other in own if other != place):
+            told.append(row)
+    return told
+
+
+def put(draft, place, hue):
+    return draft[:place] + (hue,) + draft[place + 1:]
+
+
+def blanks(draft):
+    return [place for place, hue in enumerate(draft) if hue == -1]
+
+
+def fillings_gone_through(sizes, draft):
+    """All fillings of the draft, found by putting hues at its blanks in all ways."""
+    told = []
+    for hues in itertools.product(range(len(sizes)), repeat=draft.count(-1)):
+        strip = draft
+        for place, hue in zip(blanks(draft), hues):
+            strip = put(strip, place, hue)
+        if not wrong_rows(sizes, strip):
+            told.append(strip)
+    return sorted(told)
+
+
+# The most blanks that a draft may have, by how many hues there are, for a bound of 512 and for one of 32.
+BLANKS_512 = {1: 9, 2: 9, 3: 5, 4: 4}
+BLANKS_32 = {1: 5, 2: 5, 3: 3, 4: 2}
+
+
+def power(sizes, draft):
+    """The power that bounds drafts."""
+    return max(len(sizes), 2) ** draft.count(-1)
+
+
+def blanked_drafts(sizes, most_blanks, lengths, each, seed):
+    """Drafts of the lengths with at most so many blanks, clean as far as it can be or put at random."""
+    chance = random.Random(seed)
+    told = []
+    for length in lengths:
+        for at in range(each):
+            many = chance.randint(0, min(length, most_blanks))
+            empty = chance.sample(range(length), many)
+            draft = (-1,) * length
+            for place in chance.sample(range(length), length):
+                if place not in empty:
+                    hues = [hue for hue in range(len(sizes)) if not barring(sizes, draft, place, hue)]
+                    if at % 3 == 2 or not hues:
+                        hues = range(len(sizes))
+                    draft = put(draft, place, chance.choice(hues))
+            told.append(draft)
+    return told
 
 
 def same_kind(one, other):
@@ -77,6 +153,17 @@ def same_kind(one, other):
     return one == other
 
 
+def spoil(thing):
+    """Change each list and dict within the thing, as an asker may do with what is the asker's own."""
+    for part in thing.values() if isinstance(thing, dict) else thing if isinstance(thing, (list, tuple)) else ():
+        spoil(part)
+    if isinstance(thing, list):
+        thing.append("the asker's own")
+        thing.reverse()
+    if isinstance(thing, dict):
+        thing["own"] = "the asker's"
+
+
 class Told:
     """Checks that a test case mixes in."""
 
@@ -86,16 +173,11 @@ class Told:
         answer = call(*args)
         self.assertTrue(same_kind(args, before), call.__name__)
         kept = copy.deepcopy(answer)
-        if isinstance(answer, list):
-            answer.append("the asker's own")
-            answer.reverse()
-            again = call(*args)
-            self.assertIsNot(again, answer)
-            answer = again
-        else:
-            again = call(*args)
+        spoil(answer)
+        self.assertTrue(same_kind(args, before), call.__name__)
+        again = call(*args)
         self.assertTrue(same_kind(again, kept), call.__name__)
-        return answer
+        return again
 
     def told(self, wanted, call, *args):
         answer = self.ask(call, *args)

@@ -6,7 +6,7 @@ import unittest
 from evenhues.drafts import bars, clean, is_draft, open_hues
 from evenhues.errors import NoDraft, NoHue, NoPlace, NoSizes
 
-from tests.helping import BIG, NO_WHOLES, NUMBERS, STRANGE, Told, mixed_strips, places, rows_gone_through
+from tests.helping import BIG, NO_WHOLES, NUMBERS, STRANGE, Told, barring, mixed_strips, wrong_rows
 from tests.test_fits import NO_SIZES
 
 SOME_SIZES = [(2,), (3,), (3, 3), (2, 3), (8, 2), (4, 3), (2, 2, 2), (3, 2, 4), (3, 3, 3, 3), (2, 8, 2, 8)]
@@ -19,23 +19,6 @@ def drafts_of(sizes, many=25, most=40):
     told = []
     for strip in mixed_strips(many, hues=hues + 1, most=most) + mixed_strips(many, hues=2 * hues, most=most):
         told.append(tuple(hue if hue < hues else -1 for hue in strip))
-    return told
-
-
-def is_clean(sizes, draft):
-    for hue, size in enumerate(sizes):
-        for row in rows_gone_through(len(draft), size):
-            if all(draft[place] == hue for place in places(row, size)):
-                return False
-    return True
-
-
-def barring(sizes, draft, place, hue):
-    told = []
-    for row in rows_gone_through(len(draft), sizes[hue]):
-        own = places(row, sizes[hue])
-        if place in own and all(draft[other] == hue for other in own if other != place):
-            told.append(row)
     return told
 
 
@@ -85,7 +68,7 @@ class Clean(Told, unittest.TestCase):
         for sizes in SOME_SIZES:
             small = [d for many in range(5) for d in itertools.product(range(-1, len(sizes)), repeat=many)]
             for draft in drafts_of(sizes) + small:
-                wanted = is_clean(sizes, draft)
+                wanted = not wrong_rows(sizes, draft)
                 self.told(wanted, clean, sizes, draft)
                 seen.add(wanted)
         self.assertEqual(seen, {True, False})

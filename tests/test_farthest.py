@@ -6,7 +6,7 @@ import unittest
 from evenhues.errors import NoNumber, NoSizes, TooGreat
 from evenhues.farthest import all_strips, farthest, first_strip, strips_many, tally
 
-from tests.helping import Told, places, rows_gone_through, wrong_numbers
+from tests.helping import Told, wrong_numbers, wrong_rows
 from tests.test_fits import NO_SIZES
 
 WITH_LENGTH = (strips_many, all_strips, first_strip)
@@ -30,11 +30,7 @@ GREATEST = {
 
 
 def is_fit(sizes, strip):
-    for hue, size in enumerate(sizes):
-        for row in rows_gone_through(len(strip), size):
-            if all(strip[place] == hue for place in places(row, size)):
-                return False
-    return True
+    return not wrong_rows(sizes, strip)
 
 
 def levels(sizes):

@@ -19,6 +19,9 @@ NODES_OUT = (
     ast.AsyncFor, ast.AsyncFunctionDef, ast.AsyncWith, ast.Await, ast.Div, ast.GeneratorExp, ast.Global, ast.Match,
     ast.NamedExpr, ast.Nonlocal, ast.With, ast.Yield, ast.YieldFrom, ast.Import,
 )
+METHODS = """append clear copy count endswith extend find get index insert isalnum isalpha isdigit islower isspace
+isupper items join keys ljust lower lstrip partition pop remove replace reverse rfind rjust rpartition rsplit rstrip
+setdefault split splitlines startswith strip update upper values zfill bit_length add discard sort""".split()
 METHODS_OF_CLASSES = ("__init__", "__eq__", "__repr__", "__str__", "__len__")
 
 
@@ -121,6 +124,22 @@ class Language(unittest.TestCase):
             if isinstance(node, ast.Raise) and node.exc is not None:
                 self.assertIsInstance(node.exc, ast.Call, name)
                 self.assertIsInstance(node.exc.func, ast.Name, name)
+
+    def test_methods_are_among_those_told(self):
+        for name, node in nodes():
+            if isinstance(node, ast.Call) and isinstance(node.func, ast.Attribute):
+                self.assertIn(node.func.attr, METHODS + list(METHODS_OF_CLASSES), name)
+
+    def test_no_two_files_draw_from_one_another(self):
+        drawn = {}
+        for name, node in nodes():
+            if isinstance(node, ast.ImportFrom):
+                drawn.setdefault(name, set()).add(node.module.split(".")[1] + ".py")
+        while drawn:
+            loose = [name for name in drawn if not any(other in drawn for other in drawn[name])]
+            self.assertNotEqual(loose, [], drawn)
+            for name in loose:
+                del drawn[name]
 
     def test_is_stands_beside_none_true_and_false_alone(self):
         for name, node in nodes():
