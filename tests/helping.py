@@ -142,6 +142,28 @@ def blanked_drafts(sizes, most_blanks, lengths, each, seed):
     return told
 
 
+def ends_wrong(sizes, strip):
+    """Whether a row in one hue, with as many places as its size, ends at the last place."""
+    size = sizes[strip[-1]]
+    rows = [(len(strip) - 1 - step * (size - 1), step) for step in range(1, len(strip))]
+    return any(row[0] >= 0 and len({strip[place] for place in places(row, size)}) == 1 for row in rows)
+
+
+def fitting_strip(sizes, length, seed):
+    """A strip of the length that fits, None where none was found soon."""
+    chance = random.Random(seed)
+    for _ in range(300):
+        strip = ()
+        while len(strip) < length:
+            hues = [hue for hue in range(len(sizes)) if not ends_wrong(sizes, strip + (hue,))]
+            if not hues:
+                break
+            strip += (chance.choice(hues),)
+        if len(strip) == length:
+            return strip
+    return None
+
+
 def same_kind(one, other):
     """Equal, and of the same kinds all the way in (True is not 1 here)."""
     if type(one) is not type(other):
