@@ -27,11 +27,19 @@ def first_wrong(sizes, strip):
     """Tell by what the strip does not fit, ("hue", place) or ("row", first, step), None where it does."""
     need_sizes(sizes)
     need_strip(strip)
-    for place, hue in enumerate(strip):
-        if hue >= len(sizes):
-            return ("hue", place)
+    place = first_hue_wrong(sizes, strip)
+    if place is not None:
+        return ("hue", place)
     row = first_row_wrong(sizes, strip)
     return None if row is None else ("row", row[0], row[1])
+
+
+def first_hue_wrong(sizes, hues):
+    """Tell the first place whose hue has no size, None where there is none."""
+    for place, hue in enumerate(hues):
+        if hue >= len(sizes):
+            return place
+    return None
 
 
 def first_row_wrong(sizes, hues):

@@ -2,7 +2,7 @@
 
 from evenhues.checks import MOST_PLACES, is_whole, need_size, need_whole
 from evenhues.errors import NoNumber, NoPlace, NoRing, NoRound, TooGreat
-from evenhues.fits import need_sizes
+from evenhues.fits import first_hue_wrong, need_sizes
 from evenhues.strips import is_strip
 
 MOST_LAID = 40
@@ -61,9 +61,9 @@ def first_round_wrong(sizes, ring):
     """Tell by what the ring does not fit, ("hue", place) or ("round", first, step), None where it does."""
     need_sizes(sizes)
     need_ring(ring)
-    for place, hue in enumerate(ring):
-        if hue >= len(sizes):
-            return ("hue", place)
+    place = first_hue_wrong(sizes, ring)
+    if place is not None:
+        return ("hue", place)
     for first, hue in enumerate(ring):
         for step in range(1, len(ring)):
             if is_whole_round(ring, first, step, sizes[hue]):

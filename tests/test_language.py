@@ -23,6 +23,9 @@ METHODS = """append clear copy count endswith extend find get index insert isaln
 isupper items join keys ljust lower lstrip partition pop remove replace reverse rfind rjust rpartition rsplit rstrip
 setdefault split splitlines startswith strip update upper values zfill bit_length add discard sort""".split()
 METHODS_OF_CLASSES = ("__init__", "__eq__", "__repr__", "__str__", "__len__")
+NAMES_OUT = """register mro elements open input version_info with_traceback add_note attrgetter breakpoint builtins compile
+copyright credits delattr dir eval exec exit gc getattr globals hasattr help id importlib license locals methodcaller os
+quit setattr super type vars sys""".split()
 
 
 def sources():
@@ -39,6 +42,15 @@ def nodes():
     for name, text in sources().items():
         for node in ast.walk(ast.parse(text)):
             yield name, node
+
+
+def own_methods():
+    return [node.name for _, top in nodes() if isinstance(top, ast.ClassDef) for node in top.body
+            if isinstance(node, ast.FunctionDef) and node.name not in METHODS_OF_CLASSES]
+
+
+def own_values():
+    return [node.attr for _, node in nodes() if isinstance(node, ast.Attribute) and isinstance(node.ctx, ast.Store)]
 
 
 class Language(unittest.TestCase):
@@ -128,7 +140,56 @@ class Language(unittest.TestCase):
     def test_methods_are_among_those_told(self):
         for name, node in nodes():
             if isinstance(node, ast.Call) and isinstance(node.func, ast.Attribute):
-                self.assertIn(node.func.attr, METHODS + list(METHODS_OF_CLASSES), name)
+                self.assertIn(node.func.attr, METHODS + list(METHODS_OF_CLASSES) + own_methods(), name)
+
+    def test_own_methods_and_values(self):
+        pythons = {name for kind in (str, int, list, dict, set, bytes) for name in dir(kind)}
+        self.assertEqual(set(own_methods()) & set(own_values()), set())
+        for word in own_methods() + own_values():
+            self.assertNotIn(word, pythons)
+            self.assertNotIn(word, NAMES_OUT)
+        for name, node in nodes():
+            if isinstance(node, ast.Attribute) and isinstance(node.ctx, ast.Load):
+                self.assertIn(node.attr, METHODS + list(METHODS_OF_CLASSES) + own_methods() + own_values(), name)
+
+    def test_names_that_are_not_used(self):
+        for name, node in nodes():
+            given = [node.id] if isinstance(node, ast.Name) else [node.arg] if isinstance(node, ast.arg) else []
+            given += [node.name] if isinstance(node, (ast.FunctionDef, ast.ClassDef)) else []
+            for word in given:
+                self.assertNotIn(word, NAMES_OUT, name)
+
+    def test_classes_hold_methods_alone(self):
+        for name, node in nodes():
+            if isinstance(node, ast.ClassDef):
+                self.assertEqual(node.decorator_list, [], name)
+                self.assertLessEqual(len(node.bases), 1, name)
+                for row in node.body[1:]:
+                    self.assertIsInstance(row, ast.FunctionDef, name)
+
+    def test_each_name_of_a_top_is_bound_once(self):
+        for name, text in sources().items():
+            bound = []
+            for row in ast.parse(text).body:
+                if isinstance(row, (ast.FunctionDef, ast.ClassDef)):
+                    bound.append(row.name)
+                elif isinstance(row, ast.ImportFrom):
+                    bound += [drawn.name for drawn in row.names]
+                elif isinstance(row, ast.Assign):
+                    bound += [target.id for target in row.targets]
+                    for node in ast.walk(row.value):
+                        self.assertNotIsInstance(node, (ast.Call, ast.ListComp, ast.SetComp, ast.DictComp, ast.Set), name)
+                else:
+                    self.assertIsInstance(row.value, ast.Constant, name)
+            self.assertEqual(len(bound), len(set(bound)), name)
+
+    def test_sets_are_counted_sorted_or_asked_on_the_spot(self):
+        for name, node in nodes():
+            for part in ast.iter_child_nodes(node):
+                called = isinstance(part, ast.Call) and isinstance(part.func, ast.Name) and part.func.id == "set"
+                if called or isinstance(part, (ast.Set, ast.SetComp)):
+                    in_call = isinstance(node, ast.Call) and isinstance(node.func, ast.Name)
+                    self.assertTrue(in_call and node.func.id in ("len", "sorted") and not node.keywords, name)
 
     def test_no_two_files_draw_from_one_another(self):
         drawn = {}

@@ -1,5 +1,6 @@
 """Point [81]: stands, and what may be done at them."""
 
+import functools
 import itertools
 import random
 import unittest
@@ -20,6 +21,7 @@ NO_MARKS = STRANGE + NUMBERS + [
 NO_TURNS = [(2,), (1, 1), (2, 0), (2, 2), (0, 2, 0), (1, 1, 0), (1, 1, 0, 1, 2), (2, 2, 1, 0), (1, 1, 2, 1, 1, 0, 0, 0)]
 
 
+@functools.lru_cache(maxsize=None)
 def row_of(size, marks, hand):
     """Whether the hand has an even row of the size."""
     return any(all(marks[place] == hand for place in places(row, size)) for row in rows_gone_through(len(marks), size))
@@ -60,6 +62,7 @@ def some_marks(length, many, seed):
     return told
 
 
+@functools.lru_cache(maxsize=None)
 def some_stands(size):
     """All stands of up to six places, and some of seven and eight, with nothing taken too."""
     told = [stand for length in range(1, 7) for stand in stands_of(size, length)]
@@ -80,6 +83,7 @@ def over(size, stand):
     return 0 not in stand or won(size, stand) is not None
 
 
+@functools.lru_cache(maxsize=None)
 def free(size, stand):
     return () if over(size, stand) else tuple(place for place, mark in enumerate(stand) if mark == 0)
 
